@@ -35,7 +35,3 @@ class ErrorsTest(unittest.TestCase):
                     raise refusal("some words")
                 self.assertIsInstance(caught.exception, errors.RingError)
                 self.assertEqual(str(caught.exception), "some words")
-
-
-if __name__ == "__main__":
-    unittest.main()

@@ -70,7 +70,3 @@ class FormTest(unittest.TestCase):
             for node in ast.walk(tree):
                 if isinstance(node, ast.Constant) and isinstance(node.value, str):
                     self.assertNotIn("%", node.value, name)
-
-
-if __name__ == "__main__":
-    unittest.main()

@@ -1,17 +1,12 @@
 """Points 6 and 7: fronts of rows of bits, and what rows of marks tell."""
 
-import inspect
 import itertools
 import unittest
 
 from slipring import fronts
 from slipring.errors import BadMark, BadSize, Crooked, NoTurn
 from slipring.fronts import front, giver_turn, marks_of, sound_marks, taker_turn
-
-SIZES = range(2, 9)
-HUGE = 10 ** 60 - 1
-BAD_SIZES = [1, 0, -1, -8, 9, 10, 100, HUGE, -HUGE]
-BAD_MARKS = [-1, -4, 4, 5, HUGE, -HUGE]
+from tests.helper import BAD_MARKS, BAD_SIZES, HUGE, SIZES, RingTest, bad_turns
 
 
 def changes(bits):
@@ -41,20 +36,7 @@ def given_and_taken(size):
     return rows
 
 
-class Refusing(unittest.TestCase):
-    def refused(self, error, deed, *things):
-        copies = [list(thing) if isinstance(thing, list) else thing for thing in things]
-        with self.assertRaises(error) as caught:
-            deed(*things)
-        self.assertIs(type(caught.exception), error, (deed.__name__, things))
-        self.assertEqual(list(things), copies)
-
-    def same_number(self, told, asked):
-        self.assertIs(type(told), int)
-        self.assertEqual(told, asked)
-
-
-class NamesTest(unittest.TestCase):
+class NamesTest(RingTest):
     def test_names_and_arguments(self):
         asked = {
             "front": ["bits"],
@@ -63,12 +45,10 @@ class NamesTest(unittest.TestCase):
             "marks_of": ["size", "taker", "giver"],
             "sound_marks": ["marks"],
         }
-        for name, arguments in asked.items():
-            there = inspect.signature(getattr(fronts, name)).parameters
-            self.assertEqual(list(there), arguments, name)
+        self.same_arguments(fronts, asked)
 
 
-class FrontTest(Refusing):
+class FrontTest(RingTest):
     def test_rows_with_both_bits(self):
         self.same_number(front([0, 1]), 1)
         self.same_number(front([1, 0]), 3)
@@ -123,7 +103,7 @@ class FrontTest(Refusing):
         self.assertEqual(bits, [0, 0, 1])
 
 
-class MarksRowTest(Refusing):
+class MarksRowTest(RingTest):
     def test_a_new_ring(self):
         for size in SIZES:
             new = [2] * size
@@ -203,7 +183,7 @@ class MarksRowTest(Refusing):
         self.assertIs(sound_marks([0, 1, 0]), False)
 
 
-class RefusedMarksRowTest(Refusing):
+class RefusedMarksRowTest(RingTest):
     def test_rows_of_no_size_go_first(self):
         for many in (0, 1, 9, 10, 100):
             for deed in (giver_turn, taker_turn, sound_marks):
@@ -229,7 +209,7 @@ class RefusedMarksRowTest(Refusing):
 
     def test_marks_of_bad_turns_go_ahead_of_too_far(self):
         for size in SIZES:
-            for bad in (-1, 2 * size, HUGE, -HUGE):
+            for bad in bad_turns(size):
                 for turn in range(2 * size):
                     self.refused(NoTurn, marks_of, size, bad, turn)
                     self.refused(NoTurn, marks_of, size, turn, bad)
@@ -254,7 +234,3 @@ class OwnListsTest(unittest.TestCase):
         row[:] = [0, 3, 0, 3]
         self.assertEqual(giver_turn([1, 1, 2, 2]), 2)
         self.assertIs(sound_marks(row), False)
-
-
-if __name__ == "__main__":
-    unittest.main()

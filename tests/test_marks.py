@@ -1,23 +1,12 @@
 """Point 5: full and free marks, and where it may be given and taken."""
 
-import inspect
-import unittest
-
 from slipring import marks
 from slipring.errors import BadMark, BadSize, NoTurn
 from slipring.marks import free_mark, full_mark, may_give, may_take
-
-SIZES = range(2, 9)
-HUGE = 10 ** 60 - 1
-BAD_SIZES = [1, 0, -1, -8, 9, 10, 100, HUGE, -HUGE]
-BAD_MARKS = [-1, -2, -4, 4, 5, 8, HUGE, -HUGE]
+from tests.helper import BAD_MARKS, BAD_SIZES, HUGE, SIZES, RingTest, bad_turns
 
 
-class MarksTest(unittest.TestCase):
-    def same_number(self, told, asked):
-        self.assertIs(type(told), int)
-        self.assertEqual(told, asked)
-
+class MarksTest(RingTest):
     def test_names_and_arguments(self):
         asked = {
             "full_mark": ["size", "turn"],
@@ -25,9 +14,7 @@ class MarksTest(unittest.TestCase):
             "may_give": ["size", "turn", "mark"],
             "may_take": ["size", "turn", "mark"],
         }
-        for name, arguments in asked.items():
-            there = inspect.signature(getattr(marks, name)).parameters
-            self.assertEqual(list(there), arguments, name)
+        self.same_arguments(marks, asked)
 
     def test_full_and_free_marks_of_each_turn(self):
         for size in SIZES:
@@ -83,12 +70,7 @@ class MarksTest(unittest.TestCase):
                     self.assertEqual(things.count(True), 1, (size, place, mark))
 
 
-class RefusedMarksTest(unittest.TestCase):
-    def refused(self, error, deed, *things):
-        with self.assertRaises(error) as caught:
-            deed(*things)
-        self.assertIs(type(caught.exception), error, (deed.__name__, things))
-
+class RefusedMarksTest(RingTest):
     def test_bad_sizes_go_first(self):
         for size in BAD_SIZES:
             for turn in (0, -1, 18, HUGE):
@@ -100,7 +82,7 @@ class RefusedMarksTest(unittest.TestCase):
 
     def test_bad_turns_go_ahead_of_bad_marks(self):
         for size in SIZES:
-            for turn in (-1, -size, 2 * size, 2 * size + 1, HUGE, -HUGE):
+            for turn in bad_turns(size):
                 self.refused(NoTurn, full_mark, size, turn)
                 self.refused(NoTurn, free_mark, size, turn)
                 for mark in [0, 1, 2, 3] + BAD_MARKS:
@@ -113,7 +95,3 @@ class RefusedMarksTest(unittest.TestCase):
                 for mark in BAD_MARKS:
                     self.refused(BadMark, may_give, size, turn, mark)
                     self.refused(BadMark, may_take, size, turn, mark)
-
-
-if __name__ == "__main__":
-    unittest.main()

@@ -1,26 +1,12 @@
 """Point 4: size, turn, place, lap, onward, distance."""
 
-import inspect
-import unittest
-
 from slipring import turns
 from slipring.errors import BadSize, NoTurn
 from slipring.turns import distance, lap_of, onward, place_of
-
-SIZES = range(2, 9)
-HUGE = 10 ** 60 - 1
-BAD_SIZES = [1, 0, -1, -2, -8, 9, 10, 16, 100, HUGE, -HUGE]
+from tests.helper import BAD_SIZES, HUGE, SIZES, RingTest, bad_turns
 
 
-def bad_turns(size):
-    return [-1, -2, -size, -2 * size, 2 * size, 2 * size + 1, 4 * size, HUGE, -HUGE]
-
-
-class TurnsTest(unittest.TestCase):
-    def same_number(self, told, asked):
-        self.assertIs(type(told), int)
-        self.assertEqual(told, asked)
-
+class TurnsTest(RingTest):
     def test_names_and_arguments(self):
         asked = {
             "place_of": ["size", "turn"],
@@ -28,9 +14,7 @@ class TurnsTest(unittest.TestCase):
             "onward": ["size", "turn", "many"],
             "distance": ["size", "one", "other"],
         }
-        for name, arguments in asked.items():
-            there = inspect.signature(getattr(turns, name)).parameters
-            self.assertEqual(list(there), arguments, name)
+        self.same_arguments(turns, asked)
 
     def test_written_places_and_laps(self):
         self.assertEqual([place_of(2, turn) for turn in range(4)], [0, 1, 0, 1])
@@ -105,12 +89,7 @@ class TurnsTest(unittest.TestCase):
         self.assertEqual(distance(5, 7, 7), 0)
 
 
-class RefusedTurnsTest(unittest.TestCase):
-    def refused(self, error, deed, *things):
-        with self.assertRaises(error) as caught:
-            deed(*things)
-        self.assertIs(type(caught.exception), error, (deed.__name__, things))
-
+class RefusedTurnsTest(RingTest):
     def test_bad_sizes_go_first(self):
         for size in BAD_SIZES:
             for turn in (0, 1, -1, 16, 18, HUGE):
@@ -131,7 +110,3 @@ class RefusedTurnsTest(unittest.TestCase):
                 self.refused(NoTurn, distance, size, turn, 0)
                 self.refused(NoTurn, distance, size, 0, turn)
                 self.refused(NoTurn, distance, size, turn, turn)
-
-
-if __name__ == "__main__":
-    unittest.main()
