@@ -39,12 +39,17 @@ def free_mark(size, turn):
     return mark_of(lap_of(size, turn), FREE)
 
 
+def mark_to_give(size, turn):
+    """The mark at which it may be given at the turn."""
+    # The place must have been freed in the round before, which is always in the other lap.
+    return mark_of(1 - lap_of(size, turn), FREE)
+
+
 def may_give(size, turn, mark):
     """Whether it may be given at the turn where its place has this mark."""
     check_turn(size, turn)
     check_mark(mark)
-    # The place must have been freed in the round before, which is always in the other lap.
-    return mark == mark_of(1 - lap_of(size, turn), FREE)
+    return mark == mark_to_give(size, turn)
 
 
 def may_take(size, turn, mark):

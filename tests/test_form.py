@@ -1,6 +1,7 @@
 """The form of the package's files, as far as it is told by looking at them."""
 
 import ast
+import builtins
 import pathlib
 import re
 import unittest
@@ -70,3 +71,29 @@ class FormTest(unittest.TestCase):
             for node in ast.walk(tree):
                 if isinstance(node, ast.Constant) and isinstance(node.value, str):
                     self.assertNotIn("%", node.value, name)
+
+    def test_no_name_hides_one_of_pythons_or_of_the_file(self):
+        for name, tree in self.each_tree():
+            hidden = set(dir(builtins))
+            for node in tree.body:
+                if isinstance(node, ast.ImportFrom):
+                    hidden |= {alias.name for alias in node.names}
+                elif isinstance(node, ast.ClassDef):
+                    hidden.add(node.name)
+            for node in ast.walk(tree):
+                if isinstance(node, ast.arg):
+                    self.assertNotIn(node.arg, hidden, name)
+                elif isinstance(node, ast.Name) and isinstance(node.ctx, ast.Store):
+                    self.assertNotIn(node.id, hidden, name)
+
+    def test_no_name_is_a_method_here_and_a_value_there(self):
+        methods, values = set(), set()
+        for name, tree in self.each_tree():
+            for node in ast.walk(tree):
+                if isinstance(node, ast.ClassDef):
+                    methods |= {row.name for row in node.body if isinstance(row, ast.FunctionDef)}
+                elif isinstance(node, ast.Attribute) and isinstance(node.ctx, ast.Store):
+                    values.add(node.attr)
+        self.assertEqual(methods & values, set())
+        # Values of the lane, which is told of in the interface.
+        self.assertEqual(methods & {"board", "giver", "taker", "size"}, set())
