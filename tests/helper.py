@@ -5,6 +5,7 @@ import inspect
 import unittest
 
 from slipring.board import Board, board_of
+from slipring.errors import BadOrder
 from slipring.fronts import marks_of
 
 SIZES = range(2, 9)
@@ -60,6 +61,17 @@ class RingTest(unittest.TestCase):
         for name, arguments in asked.items():
             there = inspect.signature(getattr(holder, name)).parameters
             self.assertEqual([one for one in there if one != "self"], arguments, name)
+
+    def refuses_bad_orders(self, hand):
+        """No such hand is made where one of its orders is none, and the board is left as it was."""
+        for size in SIZES:
+            board = Board(size)
+            good = [[1], [2] * size, [-3, HUGE]]
+            for bad in bad_orders(size):
+                for place in range(len(good) + 1):
+                    self.refused(BadOrder, hand, board, good[:place] + [bad] + good[place:])
+                self.refused(BadOrder, hand, board, [bad, bad])
+            self.assertEqual((board.touches(), board.all_cells()), (0, Board(size).all_cells()))
 
     def walks(self, board, hand, rows):
         """The hand steps through the rows (stage, deed, cell, value, stage then), and touches nothing else."""

@@ -48,14 +48,7 @@ class OrdersTest(RingTest):
             self.assertEqual(len(giver.orders()), 2 * size)
 
     def test_refused_orders_at_any_place(self):
-        for size in SIZES:
-            board = Board(size)
-            good = [[1], [2] * size, [-3, HUGE]]
-            for bad in bad_orders(size):
-                for place in range(len(good) + 1):
-                    self.refused(BadOrder, Giver, board, good[:place] + [bad] + good[place:])
-                self.refused(BadOrder, Giver, board, [bad, bad])
-            self.assertEqual((board.touches(), board.all_cells()), (0, Board(size).all_cells()))
+        self.refuses_bad_orders(Giver)
 
     def test_a_refused_order_is_not_added(self):
         for size in SIZES:

@@ -259,6 +259,28 @@ class WovenTest(RingTest):
             pair.settle()
 
 
+class LongBookTest(RingTest):
+    def test_a_book_longer_than_the_orders_stays_as_it_is(self):
+        for size in (2, 3, 8):
+            board = Board(size)
+            orders = [[1], [2] * size, [3, 4], [5]]
+            giver, taker = Giver(board, orders), Taker(board, [[9]] * 6)
+            for _ in range(300):
+                giver.step()
+                taker.step()
+            self.assertEqual(taker.book(), [[9]] * 6)
+            self.assertTrue(giver.still() and taker.still())
+            parts = (4 + size) % (2 * size)
+            self.assertEqual((giver.turn(), taker.turn(), taker.first()), (parts, parts, parts))
+            giver.add([6])
+            giver.add([7])
+            giver.add([8, 8])
+            for _ in range(300):
+                giver.step()
+                taker.step()
+            self.assertEqual(taker.book(), [[9]] * 6 + [[8, 8]])
+
+
 def frozen(thing):
     return tuple(frozen(one) for one in thing) if isinstance(thing, list) else thing
 

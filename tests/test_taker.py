@@ -2,9 +2,8 @@
 
 from slipring import taker as taker_module
 from slipring.board import Board
-from slipring.errors import BadOrder
 from slipring.taker import Taker
-from tests.helper import HUGE, SIZES, RingTest, bad_orders, board_at, step_to
+from tests.helper import HUGE, SIZES, RingTest, board_at, step_to
 
 
 def taker_up(size, book, taker, giver, slips):
@@ -36,14 +35,7 @@ class BookTest(RingTest):
             self.assertEqual(Taker(Board(size), book).book(), book)
 
     def test_refused_books(self):
-        for size in SIZES:
-            board = Board(size)
-            good = [[1], [2] * size, [-3, HUGE]]
-            for bad in bad_orders(size):
-                for place in range(len(good) + 1):
-                    self.refused(BadOrder, Taker, board, good[:place] + [bad] + good[place:])
-                self.refused(BadOrder, Taker, board, [bad, bad])
-            self.assertEqual((board.touches(), board.all_cells()), (0, Board(size).all_cells()))
+        self.refuses_bad_orders(Taker)
 
     def test_what_is_handed_in_is_left_and_not_kept(self):
         book = [[1], [2, 3]]
