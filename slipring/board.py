@@ -118,6 +118,10 @@ class Board:
         self.numbers[cell] = number
         self.note_touch("write", cell, number)
 
+    def fill(self, cells):
+        """Have these numbers in its cells, without touching them."""
+        self.numbers = list(cells)
+
     def all_cells(self):
         """The numbers of all cells, without touching them."""
         return list(self.numbers)
@@ -134,5 +138,5 @@ class Board:
 def board_of(cells):
     """A board with these cells, which has not been touched."""
     board = Board(size_of_cells(cells))
-    board.numbers = list(cells)
+    board.fill(cells)
     return board

@@ -103,6 +103,30 @@ class Giver(Hand):
         order = self.next_order()
         return order in range(len(self.kept)) and self.next_part() in range(len(self.kept[order]))
 
+    def order_and_part(self):
+        """Which part it gives next, or has just given; at `lacks` the number that was read."""
+        if self.stage_now == "lacks":
+            return (self.number, 0)
+        if not self.has_part():
+            return (len(self.kept), 0)
+        return (self.next_order(), self.next_part())
+
+    def mind(self):
+        """All that it has in mind: stage, turn, marks, order, part."""
+        return (self.stage_now, self.here, tuple(self.marks_read)) + self.order_and_part()
+
+    def recall(self, mind):
+        """Have this in mind, and nothing else."""
+        stage, turn, marks, order, part = mind
+        self.recall_start(stage, turn, marks)
+        if stage == "lacks":
+            self.number, self.left = order, 0
+        elif part == 0:
+            # The slip ahead of an order's first part is the last one of the order ahead of it.
+            self.number, self.left = order - 1, 0
+        else:
+            self.number, self.left = order, len(self.kept[order]) - part
+
     def know_turn(self, marks):
         """Know its turn by the marks of all places."""
         self.here = giver_turn(marks)

@@ -135,6 +135,8 @@ class Hand:
         self.stage_now = "rouse"
         self.marks_read = []
         self.here = None
+        # Its touches, each with its name ahead; the two hands of a lane keep them in one list.
+        self.touched = []
 
     def stage(self):
         """The stage at which it is."""
@@ -157,7 +159,14 @@ class Hand:
             self.stage_now = deed(self)
         else:
             self.stage_now = self.own_deed()
+        self.touched.append((self.name,) + self.board.last_touch())
         return True
+
+    def recall_start(self, stage, turn, marks):
+        """Be at this stage, with this turn and these marks in mind."""
+        self.stage_now = stage
+        self.here = turn
+        self.marks_read = list(marks)
 
     def sleeping(self):
         """Whether it sleeps and was not rung, asked without a touch."""

@@ -73,6 +73,23 @@ class Taker(Hand):
             self.taken.append(self.parts)
         self.parts = []
 
+    def mind(self):
+        """All that it has in mind: stage, turn, marks, first, number, left, parts."""
+        # What it read last is told only while it is still asked: else stands that go on alike would be unlike.
+        number = self.number if self.stage_now in ("left", "thing") else 0
+        left = self.left if self.stage_now == "thing" else 0
+        seen = (self.not_freed, number, left, tuple(self.parts))
+        return (self.stage_now, self.here, tuple(self.marks_read)) + seen
+
+    def recall(self, mind):
+        """Have this in mind, and nothing else."""
+        stage, turn, marks, first, number, left, parts = mind
+        self.recall_start(stage, turn, marks)
+        self.not_freed = first
+        self.number = number
+        self.left = left
+        self.parts = list(parts)
+
     def know_turn(self, marks):
         """Know its turn by the marks of all places; nothing is read there yet."""
         self.here = taker_turn(marks)

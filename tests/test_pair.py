@@ -2,11 +2,11 @@
 
 import random
 
-from slipring.board import Board, board_of
+from slipring.board import Board
 from slipring.fronts import sound_marks
 from slipring.giver import Giver
 from slipring.taker import Taker
-from tests.helper import HUGE, RingTest
+from tests.helper import HUGE, RingTest, slips_of, turn_of_bits
 
 
 # The document's hands once more, told as lives from top to bottom: each yield is one step,
@@ -22,17 +22,6 @@ def coming_up(size, own):
     return marks
 
 
-def turn_of_bits(bits):
-    """The turn by walking round twice: at each turn the bit of its place is turned over."""
-    size = len(bits)
-    row = [1] * size
-    for turn in range(2 * size):
-        if row == bits:
-            return turn
-        row[turn % size] = turn // size
-    raise AssertionError("a crooked row")
-
-
 def waiting(size, own, turn, wanted):
     yield "wish", "write", 4 * size + own, turn
     mark = yield "again", "read", 4 * (turn % size), None
@@ -41,13 +30,6 @@ def waiting(size, own, turn, wanted):
             pass
         yield "hush", "write", 4 * size + 2 + own, 0
     yield "unwish", "write", 4 * size + own, -1
-
-
-def slips_of(orders):
-    return [
-        (number, len(order) - 1 - part, thing)
-        for number, order in enumerate(orders) for part, thing in enumerate(order)
-    ]
 
 
 def giver_life(size, orders, known):
@@ -279,78 +261,3 @@ class LongBookTest(RingTest):
                 giver.step()
                 taker.step()
             self.assertEqual(taker.book(), [[9]] * 6 + [[8, 8]])
-
-
-def frozen(thing):
-    return tuple(frozen(one) for one in thing) if isinstance(thing, list) else thing
-
-
-def thawed(thing):
-    return [thawed(one) for one in thing] if isinstance(thing, tuple) else thing
-
-
-def mind(hand):
-    return tuple((name, frozen(value)) for name, value in sorted(vars(hand).items()) if name != "board")
-
-
-def with_mind(hand, told):
-    for name, value in told:
-        setattr(hand, name, thawed(value))
-    return hand
-
-
-class AllWeavingsTest(RingTest):
-    """All stands that any row of steps and so many falls lead to, on a small ring."""
-
-    def after(self, stand, deed):
-        cells, giver_mind, taker_mind, falls = stand
-        board = board_of(list(cells))
-        giver = with_mind(Giver(board, []), giver_mind)
-        taker = with_mind(Taker(board, []), taker_mind)
-        if deed == "giver":
-            giver.step()
-        elif deed == "taker":
-            taker.step()
-        elif deed == "giver falls":
-            giver, falls = Giver(board, giver.orders()), falls - 1
-        else:
-            taker, falls = Taker(board, taker.book()), falls - 1
-        self.check(board, giver, taker)
-        return tuple(board.all_cells()), mind(giver), mind(taker), falls
-
-    def check(self, board, giver, taker):
-        orders, book = giver.orders(), taker.book()
-        self.assertEqual(book, orders[:len(book)])
-        marks = board.all_cells()[0:4 * board.size:4]
-        self.assertTrue(sound_marks(marks))
-        if giver.still() and taker.still():
-            self.assertEqual(book, orders)
-        for hand, other in ((giver, taker), (taker, giver)):
-            if hand.stage() == "sleep" and hand.still() and other.stage() not in ("card", "ring", "rouse"):
-                turn = hand.turn()
-                lap = turn // board.size
-                wanted = 2 * (1 - lap) if hand is giver else 2 * lap + 1
-                self.assertNotEqual(marks[turn % board.size], wanted)
-
-    def all_stands(self, size, orders, falls):
-        board = Board(size)
-        new = tuple(board.all_cells()), mind(Giver(board, orders)), mind(Taker(board, [])), falls
-        seen, waiting_stands = {new}, [new]
-        while waiting_stands:
-            stand = waiting_stands.pop()
-            deeds = ["giver", "taker"]
-            if stand[3] > 0:
-                deeds += ["giver falls", "taker falls"]
-            for deed in deeds:
-                behind = self.after(stand, deed)
-                if behind not in seen:
-                    seen.add(behind)
-                    waiting_stands.append(behind)
-        return seen
-
-    def test_all_weavings_of_small_rings(self):
-        for size, orders, falls in (
-            (2, [], 2), (2, [[5]], 2), (2, [[5], [6, 7]], 0), (2, [[5, 6], [7]], 1), (3, [[1], [2, 3, 4]], 0),
-        ):
-            seen = self.all_stands(size, orders, falls)
-            self.assertGreater(len(seen), 100, (size, orders, falls))
