@@ -9,6 +9,7 @@ import unittest
 from slipring.board import Board, board_of
 from slipring.errors import BadOrder
 from slipring.fronts import marks_of
+from slipring.lane import Lane
 
 SIZES = range(2, 9)
 HUGE = 10 ** 60 - 1
@@ -37,6 +38,14 @@ def board_at(size, taker, giver, slips=()):
     return board_of(cells)
 
 
+def lane_of(size, orders):
+    """A new lane to which these orders have been handed in."""
+    lane = Lane(size)
+    for order in orders:
+        lane.hand_in(order)
+    return lane
+
+
 def step_to(hand, stage, least=0):
     """Step the hand until it is at the stage, so many times at least."""
     for many in range(200):
@@ -45,6 +54,8 @@ def step_to(hand, stage, least=0):
         hand.step()
     raise AssertionError(f"the hand never comes to {stage}")
 
+# How a number is written, of sixty figures at most.
+NUMBER_FORM = r"(?:0|-?[1-9][0-9]{0,59})"
 HANDS = ["giver", "taker"]
 COMING_UP = ["rouse", "clear", "mute", "marks"]
 WAITING = ["look", "wish", "again", "sleep", "hush", "unwish"]

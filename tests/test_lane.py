@@ -10,15 +10,8 @@ from slipring.lane import Lane
 from slipring.stands import stand_of
 from slipring.taker import Taker
 from tests.helper import (
-    BAD_HANDS, BAD_SIZES, HANDS, HUGE, SIZES, Model, RingTest, Watched, bad_orders, model_with, woven,
+    BAD_HANDS, BAD_SIZES, HANDS, HUGE, SIZES, Model, RingTest, Watched, bad_orders, lane_of, model_with, woven,
 )
-
-
-def lane_of(size, orders):
-    lane = Lane(size)
-    for order in orders:
-        lane.hand_in(order)
-    return lane
 
 
 def step_by_turns(lane, many):

@@ -10,7 +10,7 @@ from slipring.fronts import sound_marks
 from slipring.lane import Lane
 from slipring.looks import owner, slips, sound_board, trail_good
 from tests.helper import (
-    BAD_SIZES, HANDS, HUGE, SIZES, Model, RingTest, Watched, bad_orders, board_at, model_with, woven,
+    BAD_SIZES, HANDS, HUGE, SIZES, Model, RingTest, Watched, bad_orders, board_at, lane_of, model_with, woven,
 )
 
 
@@ -80,9 +80,7 @@ def sound_second(cells):
 
 def run(size, orders, steps, chance):
     """The trail of a new lane with these orders, stepped so often, none falling."""
-    lane = Lane(size)
-    for order in orders:
-        lane.hand_in(order)
+    lane = lane_of(size, orders)
     leaning = chance.choice([0.3, 0.5, 0.7])
     for _ in range(steps):
         lane.step(HANDS[int(chance.random() < leaning)])

@@ -9,7 +9,7 @@ from slipring.errors import BadOrder, BadSize
 from slipring.lane import Lane
 from slipring.outside import falls_of, first_wrong
 from tests.helper import (
-    BAD_SIZES, HANDS, HUGE, SIZES, Mind, Model, RingTest, Watched, bad_orders, model_with, woven,
+    BAD_SIZES, HANDS, HUGE, SIZES, Mind, Model, RingTest, Watched, bad_orders, lane_of, model_with, woven,
 )
 
 
@@ -82,15 +82,23 @@ def told_second(size, orders, trail):
 
 def trail_with_falls(chance, size, orders, steps, falls):
     """A lane with these orders, stepped so often, with falls as chance has it."""
-    lane = Lane(size)
-    for order in orders:
-        lane.hand_in(order)
+    lane = lane_of(size, orders)
     leaning = chance.choice([0.3, 0.5, 0.7])
     for _ in range(steps):
         if chance.random() < falls:
             lane.fall(chance.choice(HANDS))
         lane.step(HANDS[int(chance.random() < leaning)])
     return lane.trail()
+
+
+def lane_at_ring(size):
+    """A lane whose giver is about to ring, having given the one order [7]; the taker sleeps, or nearly so."""
+    lane = lane_of(size, [[7]])
+    for _ in range(8):
+        lane.step("taker")
+    while lane.stage("giver") != "ring":
+        lane.step("giver")
+    return lane
 
 
 class OutsideTest(RingTest):
@@ -128,9 +136,7 @@ class OutsideTest(RingTest):
         orders = [[1, 2], [3]]
         for own, hand in enumerate(HANDS):
             for moment in range(120):
-                lane = Lane(2)
-                for order in orders:
-                    lane.hand_in(order)
+                lane = lane_of(2, orders)
                 for at in range(120):
                     if at == moment:
                         fresh = lane.stage(hand) == "rouse"
@@ -147,12 +153,7 @@ class OutsideTest(RingTest):
                 self.told(2, orders, trail, None, tuple(asked))
 
     def test_a_ring_and_a_fall_look_alike_until_the_next_touch(self):
-        lane = Lane(2)
-        lane.hand_in([7])
-        for _ in range(8):
-            lane.step("taker")
-        while lane.stage("giver") != "ring":
-            lane.step("giver")
+        lane = lane_at_ring(2)
         many = len(lane.trail())
         lane.fall("giver")
         lane.step("giver")
@@ -163,12 +164,7 @@ class OutsideTest(RingTest):
         self.told(2, [[7]], lane.trail(), None, ([many], []))
 
     def test_falls_of_a_hand_that_came_up_and_fell_again(self):
-        lane = Lane(3)
-        lane.hand_in([7])
-        for _ in range(8):
-            lane.step("taker")
-        while lane.stage("giver") != "ring":
-            lane.step("giver")
+        lane = lane_at_ring(3)
         many = len(lane.trail())
         for _ in range(3):
             lane.fall("giver")
@@ -218,13 +214,7 @@ class OutsideTest(RingTest):
         # Both hands up to the taker's sleep and the giver's ring, then a few touches with many falls.
         chance = random.Random(281)
         for _ in range(40):
-            lane = Lane(2)
-            lane.hand_in([5])
-            for _ in range(8):
-                lane.step("taker")
-            for _ in range(7 + 6):
-                lane.step("giver")
-            self.assertEqual(lane.stage("giver"), "ring")
+            lane = lane_at_ring(2)
             start = len(lane.trail())
             for _ in range(7):
                 if chance.random() < 0.5:
@@ -233,9 +223,9 @@ class OutsideTest(RingTest):
             trail = lane.trail()
             asked = None
             for row in rising_lists(list(range(start, len(trail)))):
-                if asked is None and explained_by(2, [[5]], trail, [row, []]):
+                if asked is None and explained_by(2, [[7]], trail, [row, []]):
                     asked = (row, [])
-            self.told(2, [[5]], trail, None, asked)
+            self.told(2, [[7]], trail, None, asked)
 
     def test_woven_runs_with_falls(self):
         chance = random.Random(282)

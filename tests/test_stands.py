@@ -357,7 +357,8 @@ class BadStandTest(RingTest):
             turn = None if stage in COMING_UP else 1
             for number in (-HUGE, -1, 0, 1, HUGE):
                 for left in (-HUGE, -1, 0, 1, HUGE):
-                    fits = (number == 0 or stage in ("left", "thing")) and (left == 0 or (stage == "thing" and left > 0))
+                    fits = number == 0 or stage in ("left", "thing")
+                    fits = fits and (left == 0 or (stage == "thing" and left > 0))
                     (self.good if fits else self.bad)(with_taker((stage, turn, (), turn, number, left, ())))
 
     def test_parts(self):

@@ -8,7 +8,8 @@ from slipring.looks import owner, slips, sound_board
 from slipring.outside import falls_of, first_wrong
 from slipring.stands import lane_at, stand_of
 from tests.helper import (
-    GIVER_STAGES, HANDS, HUGE, SIZES, TAKER_STAGES, Model, RingTest, Watched, all_stages, model_at, slips_of, woven,
+    GIVER_STAGES, HANDS, HUGE, SIZES, TAKER_STAGES, Model, RingTest, Watched, all_stages, lane_of, model_at, slips_of,
+    woven,
 )
 
 
@@ -155,9 +156,7 @@ class SmallRingTest(RingTest):
                     self.assertIn(lane.stage(HANDS[1 - own]), ("card", "ring", "rouse"))
 
     def all_stands(self, size, orders, falls):
-        lane = Lane(size)
-        for order in orders:
-            lane.hand_in(order)
+        lane = lane_of(size, orders)
         new = (stand_of(lane), falls)
         seen, ahead = {new}, [new]
         while ahead:
